@@ -1,0 +1,1 @@
+"""Which rows of a body can be cut out into a function."""
