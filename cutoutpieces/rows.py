@@ -134,7 +134,7 @@ def renamed_part(part, held, names, marks):
         return tuple([names.get(name, name) for name in held])
     if part == "mark":
         return marks.get(held, held)
-    if part == "use" or held == "":
+    if part == "use":
         return held
     return names.get(held, held)
 

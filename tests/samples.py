@@ -127,9 +127,9 @@ def made_bodies(many, names=("x", "y", "z")):
     while len(found) < many:
         seed += 1
         maker = Maker(seed, list(names))
-        given = [name for name in names if maker.dice.below(2)]
-        rows = maker.rows(3, 4, False)
-        if 2 < len(marks_of(rows)) < 20:
+        given = [name for name in names if maker.dice.below(4)]
+        rows = maker.rows(4, 4, False) if seed % 3 else [("loop", maker.mark(), maker.rows(4, 3, True))]
+        if 3 < len(marks_of(rows)) < 20:
             found.append(Body(given, rows))
     return found
 

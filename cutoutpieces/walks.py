@@ -1,0 +1,131 @@
+"""Walks: what a run does between two waits."""
+
+from cutoutpieces.rows import reads, sets
+
+
+def edges_of(stretches):
+    """The dict from the address of each outermost row of stretches to (k, begins, ends).
+
+    k is the index of its stretch, begins and ends tell whether it is its first and its last row.
+    """
+    edges = {}
+    for k, (gap, many) in enumerate(stretches):
+        for index in range(many):
+            edges[(*gap[:-1], gap[-1] + index)] = (k, index == 0, index == many - 1)
+    return edges
+
+
+class Walk:
+    """Goes through rows up to the next wait, with the names that are set.
+
+    acts are what is done on the way, stop is the spot of the wait, None ahead of
+    it, known are the names that are set.
+    """
+
+    def __init__(self, layout, edges, names, pending):
+        self.acts = []
+        self.stop = None
+        self.known = {name: True for name in names}
+        self._layout = layout
+        self._edges = edges
+        self._pending = list(pending)
+
+    def begin(self):
+        """Goes to the first wait."""
+        self._go_on((0,), None)
+
+    def go(self, address, word):
+        """Goes on from the row at an address, behind a word that can come there."""
+        row = self._layout.row(address)
+        if word == "yes":
+            self._go_on((*address, 0, 0), None)
+        elif word == "no" and row[0] == "if":
+            self._go_on((*address, 1, 0), None)
+        elif word == "fail" or word == "shut":
+            self._go_on(address, word)
+        else:
+            self._change(row, word)
+            self._go_on(address, "end")
+
+    def _change(self, row, word):
+        if word == "done":
+            self.known.pop(row[2])
+            self.acts.append(("strike", row[2]))
+        elif word == "told" and sets(row) is not None:
+            self.known[row[3]] = True
+            self.acts.append(("set", row[3]))
+
+    def _go_on(self, address, way):
+        """From a gap if way is None, otherwise from a row that is left by a way."""
+        while self.stop is None:
+            if way is None:
+                address, way = self._come(address)
+            else:
+                address, way = self._leave(address, way)
+
+    def _come(self, gap):
+        rows = self._layout.rows_in(gap[:-1])
+        if gap[-1] == len(rows):
+            return self._leave_list(gap[:-1], "end")
+        if gap in self._edges and self._edges[gap][1]:
+            self.acts.append(("in", self._edges[gap][0]))
+        return self._do(gap, rows[gap[-1]])
+
+    def _do(self, address, row):
+        """Does what a row does without waiting."""
+        lacked = [name for name in reads(row) if name not in self.known]
+        if lacked:
+            self.acts.append(("lack", row[1], lacked[0]))
+            return address, "fail"
+        if row[0] == "guard" or row[0] == "last":
+            return (*address, 0, 0), None
+        if row[0] == "leave" or row[0] == "again":
+            return address, row[0]
+        if row[0] == "catch":
+            self.acts.append(row)
+            return address, "end"
+        if row[0] == "answer":
+            self.acts.append(row)
+            return address, "answer"
+        return self._wait(address)
+
+    def _wait(self, address):
+        self.stop = (address, tuple(self._pending))
+        return address, None
+
+    def _leave(self, address, way):
+        """Goes on from a row that is left by a way."""
+        if address in self._edges:
+            k, _, ends = self._edges[address]
+            if ends or way != "end":
+                self.acts.append(("out", k, way))
+        if way == "end":
+            return (*address[:-1], address[-1] + 1), None
+        return self._leave_list(address[:-1], way)
+
+    def _leave_list(self, path, way):
+        """Goes on from a list of rows that is left by a way."""
+        if path == ():
+            self.stop = ((), (way,))
+            return path, way
+        address, number = path[:-1], path[-1]
+        word = self._layout.row(address)[0]
+        if word == "loop":
+            return self._leave_round(address, way)
+        if word == "guard" and number == 0 and way == "fail":
+            return (*address, 1, 0), None
+        if word == "last" and number == 0:
+            self._pending.append(way)
+            return (*address, 1, 0), None
+        if word == "last":
+            left = self._pending.pop()
+            return address, left if way == "end" else way
+        return address, way
+
+    def _leave_round(self, address, way):
+        """Goes on from the rows of a loop that are left by a way."""
+        if way == "end" or way == "again":
+            return self._wait(address)
+        if way == "leave":
+            return address, "end"
+        return address, way
