@@ -96,7 +96,7 @@ class Run:
     def copied(self):
         """An equal Run that goes on by itself."""
         run = Run(self._body)
-        for word in self._words:
+        for word in self.words():
             run.go(word)
         return run
 

@@ -11,7 +11,8 @@ def edges_of(stretches):
     edges = {}
     for k, (gap, many) in enumerate(stretches):
         for index in range(many):
-            edges[(*gap[:-1], gap[-1] + index)] = (k, index == 0, index == many - 1)
+            address = (*gap[:-1], gap[-1] + index)
+            edges[address] = (k, index == 0, index == many - 1)
     return edges
 
 
