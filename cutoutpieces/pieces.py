@@ -4,7 +4,7 @@ from cutoutpieces.errors import NoStretch, Wrong
 from cutoutpieces.layouts import Layout
 from cutoutpieces.limits import need_last, need_room, need_single_marks
 from cutoutpieces.rows import are_rows, frozen, marks_in, names_in
-from cutoutpieces.words import is_integer
+from cutoutpieces.words import is_address, is_integer
 
 
 class Piece:
@@ -23,6 +23,10 @@ class Piece:
     def rows(self):
         """The list of the rows."""
         return list(self._rows)
+
+    def layout(self):
+        """Where the rows stand; for the package only, it is not copied."""
+        return self._layout
 
     def names(self):
         """The ascending list of the names."""
@@ -96,15 +100,20 @@ def last_ways(ways, ending):
     return [*ways, *ways_without(ending, ("end",))]
 
 
+def has_stretch_form(thing):
+    """Whether any value is a tuple of an address and an integer from 1 on."""
+    if not isinstance(thing, tuple) or len(thing) != 2:
+        return False
+    return is_address(thing[0]) and is_integer(thing[1]) and thing[1] >= 1
+
+
 def is_stretch(body, thing):
     """Whether any value is a stretch of a body."""
-    if not isinstance(thing, tuple) or len(thing) != 2:
+    if not has_stretch_form(thing):
         return False
     gap, many = thing
     layout = body.layout()
-    if not layout.has_gap(gap) or not is_integer(many) or many < 1:
-        return False
-    return gap[-1] + many <= len(layout.rows_in(gap[:-1]))
+    return layout.has_gap(gap) and gap[-1] + many <= len(layout.rows_in(gap[:-1]))
 
 
 def stretches(body):

@@ -14,22 +14,34 @@ WORDS = {
 }
 
 
-def is_spot(body, thing):
-    """Whether any value is a spot of a body by its form."""
+def is_wait(thing):
+    """Whether any value is a tuple (thing, pending), pending being a tuple of ways out."""
     if not isinstance(thing, tuple) or len(thing) != 2 or not isinstance(thing[1], tuple):
         return False
-    address, pending = thing
-    if not all([is_way(way) for way in pending]):
+    return all([is_way(way) for way in thing[1]])
+
+
+def is_spot(body, thing):
+    """Whether any value is a spot of a body by its form."""
+    if not is_wait(thing):
         return False
+    address, pending = thing
     if isinstance(address, tuple) and len(address) == 0:
         return len(pending) == 1 and pending[0] in ("answer", "end", "fail", "shut")
-    layout = body.layout()
+    return waits_at(body.layout(), address, pending, False)
+
+
+def waits_at(layout, address, pending, looped):
+    """Whether a run can wait, by the form, at any address with this tuple of ways out.
+
+    looped is whether all rows stand in a loop around.
+    """
     if not layout.has_row(address) or layout.row(address)[0] not in WORDS:
         return False
     lasts = layout.lasts_ending(address)
     if len(lasts) != len(pending):
         return False
-    return all([layout.in_loop(at) or way not in ("leave", "again") for at, way in zip(lasts, pending)])
+    return all([looped or layout.in_loop(at) or way not in ("leave", "again") for at, way in zip(lasts, pending)])
 
 
 def words_at(body, spot):

@@ -50,7 +50,7 @@ class Walk:
 
     def _change(self, row, word):
         if word == "done":
-            self.known.pop(row[2])
+            self.known.pop(row[2], None)
             self.acts.append(("strike", row[2]))
         elif word == "told" and sets(row) is not None:
             self.known[row[3]] = True
@@ -68,9 +68,19 @@ class Walk:
         rows = self._layout.rows_in(gap[:-1])
         if gap[-1] == len(rows):
             return self._leave_list(gap[:-1], "end")
-        if gap in self._edges and self._edges[gap][1]:
-            self.acts.append(("in", self._edges[gap][0]))
+        if gap in self._edges and self._edges[gap][1] and not self._enter(self._edges[gap][0]):
+            return self._leave_list(gap[:-1], "fail")
         return self._do(gap, rows[gap[-1]])
+
+    def _enter(self, k):
+        """Comes to the stretch with this index, and tells whether its rows are done."""
+        self.acts.append(("in", k))
+        return True
+
+    def _exit(self, k, way):
+        """Leaves the rows of the stretch with this index by a way, and tells by which one the stretch is left."""
+        self.acts.append(("out", k, way))
+        return way
 
     def _do(self, address, row):
         """Does what a row does without waiting."""
@@ -99,7 +109,7 @@ class Walk:
         if address in self._edges:
             k, _, ends = self._edges[address]
             if ends or way != "end":
-                self.acts.append(("out", k, way))
+                way = self._exit(k, way)
         if way == "end":
             return (*address[:-1], address[-1] + 1), None
         return self._leave_list(address[:-1], way)

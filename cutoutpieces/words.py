@@ -4,6 +4,7 @@ LETTERS = "abcdefghijklmnopqrstuvwxyz"
 LONGEST = 8
 USES = ("look", "put")
 WAYS = ("again", "answer", "end", "fail", "leave", "shut")
+# Each handing stands at its weight.
 HANDINGS = ("none", "value", "state")
 
 

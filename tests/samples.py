@@ -1,7 +1,15 @@
 """Values for tests: odd ones for whatever takes any value, and pseudo-random bodies."""
 
 from cutoutpieces.bodies import Body
-from cutoutpieces.errors import PieceError, Wrong
+from cutoutpieces.cuts import Cut, need_apart
+from cutoutpieces.cutting import CutRun
+from cutoutpieces.errors import Overlap, PieceError, Wrong
+from cutoutpieces.kinds import Kind
+from cutoutpieces.pieces import Piece, piece_at, stretches
+from cutoutpieces.plans import Plan, needed_ways
+
+HANDINGS = ["none", "value", "state"]
+KIND_WORDS = ["look", "put", "read", "set", "strike", "unset"]
 
 
 def nested(many, innermost, shut_in):
@@ -43,7 +51,10 @@ def odd_values():
         ("do",), ("do", "a", [], ""), ["do", "a", [], ""], nested(29, [], lambda thing: [thing]),
         nested(29, (), lambda thing: (thing,)), nested(14, ("leave",), lambda thing: ("guard", [thing], ())),
         [0] * 9999, ("a",) * 9999, tuple(range(9999)), ["a"] * 9999, "a" * 9999, Body([], []),
-        Body(["a"], [("do", "a", [], "")]), [Body([], [])], (Body([], []), 0), Wrong(0), PieceError(), Body, is_odd,
+        Body(["a"], [("do", "a", [], "")]), [Body([], [])], (Body([], []), 0), Wrong(0), PieceError(), Body, is_odd, Plan({}, {}, []), [Plan({}, {}, [])],
+        Plan, Kind({}, []), Piece([("do", "a", [], "")]), Cut(Body([], []), []), CutRun(Cut(Body([], []), [])), {"x": "value"},
+        {"x": ["value"]}, {"X": "value"}, {"x": True}, {"x": "some"}, {("x",): "value"}, {"x": "none", 0: "none"},
+        ["fail", 0], {"fail": True},
     ]
 
 
@@ -143,4 +154,51 @@ def marks_of(rows):
         for part in row[1:]:
             if isinstance(part, (list, tuple)) and not any(isinstance(held, str) for held in part):
                 found.extend(marks_of(part))
+    return found
+
+
+def made_plan(piece, dice):
+    """A plan for a piece, in two of three cases one that mostly hands by state."""
+    mostly = dice.below(3) > 0
+    handings = [{}, {}]
+    for name in piece.names():
+        for told in handings:
+            told[name] = ("state" if dice.below(5) else "none") if mostly else dice.one_of(HANDINGS)
+    return Plan(*handings, needed_ways(piece) + [way for way in ("fail", "shut") if dice.below(3)])
+
+
+def made_cut(body, dice, most):
+    """A cut with at most so many calls."""
+    calls = []
+    for name in ["f", "g", "h"][:1 + dice.below(most)]:
+        stretch = dice.one_of(stretches(body))
+        call = (name, stretch, made_plan(piece_at(body, stretch), dice))
+        try:
+            need_apart([*calls, call])
+        except Overlap:
+            continue
+        calls.append(call)
+    return Cut(body, calls)
+
+
+def made_cuts(many, names=("x", "y"), most=3):
+    """So many cuts of as many bodies."""
+    return [made_cut(body, Dice(k), most) for k, body in enumerate(made_bodies(many, names))]
+
+
+def made_folds(many, names=("x", "y")):
+    """So many tuples (piece, plan, kind), some of which no body of the kind has."""
+    found = []
+    seed = 0
+    while len(found) < many:
+        seed += 1
+        maker = Maker(seed, list(names))
+        dice = maker.dice
+        rows = maker.rows(3, 3, dice.below(2) > 0)
+        if not rows or not len(Piece(rows)) <= 8:
+            continue
+        piece, rare = Piece(rows), 1 + dice.below(4)
+        words = {name: [word for word in KIND_WORDS if dice.below(rare) == 0] for name in piece.names()}
+        kind = Kind(words, [word for word in ("guard", "last", "loop") if dice.below(2)])
+        found.append((piece, made_plan(piece, dice), kind))
     return found
