@@ -105,7 +105,7 @@ def is_cell(thing):
     if not isinstance(thing, tuple) or len(thing) != 3:
         return False
     sign, look, put = thing
-    return isinstance(sign, str) and sign in SIGNS and isinstance(look, bool) and isinstance(put, bool)
+    return sign in SIGNS and isinstance(look, bool) and isinstance(put, bool)
 
 
 def is_no_cell(thing):

@@ -93,9 +93,7 @@ def unlike(cut, words):
     """The index of the first sign that only one of body and cut shows with the words, or None."""
     signs = play(cut.body, words)
     others = signs_taken(cut, words)
-    for index, (sign, other) in enumerate(zip(signs, others)):
-        if sign != other:
+    for index in range(max(len(signs), len(others))):
+        if signs[index:index + 1] != others[index:index + 1]:
             return index
-    if len(signs) == len(others):
-        return None
-    return min(len(signs), len(others))
+    return None

@@ -3,7 +3,7 @@
 from cutoutpieces.callwalks import CallWalk
 from cutoutpieces.errors import BadWord, Nothing
 from cutoutpieces.spots import words_from
-from cutoutpieces.words import is_integer, is_use
+from cutoutpieces.words import is_integer
 
 # The number of the variables of the body; those of frames have the numbers
 # from 1 on, in the order in which they begin.
@@ -14,9 +14,8 @@ def takes_use(functions, thing):
     """Whether any value is a use of one of the functions that were handed out, told as (name, use, frame)."""
     if not isinstance(thing, tuple) or len(thing) != 2:
         return False
-    if not is_use(thing[0]) or not is_integer(thing[1]) or not 0 <= thing[1] < len(functions):
-        return False
-    return functions[thing[1]][1] == thing[0]
+    use, k = thing
+    return is_integer(k) and 0 <= k < len(functions) and functions[k][1] == use
 
 
 def sign_at(layout, spot, values):

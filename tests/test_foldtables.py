@@ -145,6 +145,17 @@ class FoldTableTest(unittest.TestCase):
                 ([state(((1,), ()), (), (), EQUAL, EQUAL)], False)]:
             self.assertIs(is_fold_table(TWO, BACK, READ, "x", [*more, *base]), good, more)
 
+    def test_a_strike_of_what_is_unset_changes_nothing(self):
+        piece = Piece([("do", "a", ["x"], "")])
+        plan, kind = Plan({"x": "state"}, {}, []), Kind({"x": ["strike"]}, [])
+        base = fold_table(piece, plan, kind, "x")
+        watched = ("=", True, False)
+        more = [state(place, (), (), EQUAL, (), watched) for place in ("late", "over")]
+        self.assertIs(is_fold_table(piece, plan, kind, "x", [*base, *more]), True)
+        # Of what is set, the elder frame has another value.
+        more += [state(place, ("x",), (), EQUAL, (), watched) for place in ("late", "over")]
+        self.assertIs(is_fold_table(piece, plan, kind, "x", [*base, *more]), False)
+
     def test_reads_and_strikes_of_the_body_are_unlike(self):
         for word, signs in [("read", "="), ("strike", "="), ("set", "=+-"), ("put", "=+-"), ("unset", "=+-")]:
             kind = Kind({"x": [word]}, [])

@@ -97,6 +97,8 @@ class PlanTest(unittest.TestCase):
                       Plan({"x": "value"}, {}, ["fail"]), Plan({"x": "value", "y": "value"}, {}, ["fail", "shut"]), None, 0]:
             self.assertFalse(plan == other)
             self.assertTrue(plan != other)
+        self.assertFalse(Plan({"x": "value"}, {"y": "value"}, []) == Plan({"x": "value"}, {"y": "state"}, []))
+        self.assertFalse(Plan({"x": "value"}, {"y": "value"}, []) == Plan({"x": "value"}, {}, []))
         for value in odd_values():
             self.assertFalse(Plan({"x": "state"}, {}, []) == value)
 

@@ -88,6 +88,29 @@ class ProductsTest(unittest.TestCase):
         rows = [A, ("do", "c", ["x", "y"], "")]
         self.need(cut_of(["x"], rows, (0,), 1, {}), [], None)
 
+    def test_what_is_handed_by_value_is_lacked(self):
+        # A name is lacked in the cut alone, which the body has.
+        rows = [("if", "i", [A], []), ("do", "c", [], "")]
+        self.need(cut_of(["x"], rows, (0,), 1, {}, {"x": "value"}), ["x"], ["no"])
+        self.need(cut_of(["x"], rows, (0,), 1, {}, {"x": "state"}), [], None)
+        calls = [("f", ((0,), 1), Plan({}, {}, [])), ("g", ((1,), 1), Plan({"x": "value"}, {}, []))]
+        cut = Cut(Body([], [A, ("do", "c", [], "x")]), calls)
+        self.need(cut, ["x"], ["told"])
+        self.need(cut.with_plan("g", Plan({"x": "state"}, {}, [])), [], None)
+        # It is lacked in the cut, and unset in the body.
+        rows = [("if", "i", [A], []), ("do", "c", [], "")]
+        self.need(cut_of([], rows, (0,), 1, {}, {"x": "value"}), ["x"], ["no"])
+        self.need(cut_of([], rows, (0,), 1, {"x": "value"}), ["x"], [])
+
+    def test_what_is_set_in_the_cut_alone_is_handed_by_value(self):
+        rows = [("strike", "s", "x"), ("do", "c", [], "x")]
+        calls = [("f", ((0,), 1), Plan({"x": "value"}, {}, [])), ("g", ((1,), 1), Plan({"x": "value"}, {}, []))]
+        self.need(Cut(Body(["x"], rows), calls), [], None)
+        rows = [("do", "a", [], "x"), ("strike", "s", "x"), ("do", "c", [], "")]
+        calls = [("f", ((0,), 1), Plan({}, {"x": "value"}, [])), ("g", ((1,), 1), Plan({"x": "state"}, {}, [])),
+                 ("h", ((2,), 1), Plan({}, {}, []))]
+        self.need(Cut(Body([], rows), calls), [], None)
+
     def test_fails_that_are_caught(self):
         rows = [("guard", [A, ("do", "c", [], "")], [("do", "d", ["x"], "")])]
         self.need(cut_of(["x"], rows, (0, 0, 0), 2, {}, {"x": "value"}), ["x"], ["told", "fail"])
@@ -146,6 +169,26 @@ class ProductsTest(unittest.TestCase):
         cut = Cut(Body(["x"], rows), [(mark, ((k,), 1), Plan({"x": "state"}, {"x": "state"}, [])) for k, mark in enumerate("fg")])
         self.need(cut, ["x"], 4)
         self.assertEqual([parting(cut)[0], parting(cut)[-1]], ["yes", ("look", 1)])
+
+    def test_frames_that_wait_nowhere(self):
+        # The frame of the second call is watched, that of the first one is not.
+        rows = [PUT, LOOK, ("do", "c", [], "")]
+        state = Plan({"x": "state"}, {"x": "state"}, [])
+        cut = Cut(Body(["x"], rows), [("f", ((0,), 1), state), ("g", ((1,), 1), state)])
+        self.need(cut, ["x"], [("put", 0), ("look", 1)])
+        rows = [LOOK, PUT, ("do", "c", [], "")]
+        cut = Cut(Body(["x"], rows), [("f", ((0,), 1), state), ("g", ((1,), 1), state)])
+        self.need(cut, ["x"], [("put", 1), ("look", 0)])
+
+    def test_marks_have_nothing_to_do_with_names(self):
+        for cut in made_cuts(80):
+            marks = cut.body.marks()
+            for at in range(0, len(marks) - 1, 2):
+                names = {name: name for name in cut.body.names()}
+                body = cut.body.renamed(names, {**{mark: mark for mark in marks}, marks[at]: "x", marks[at + 1]: "y"})
+                other = Cut(body, cut.calls())
+                self.assertEqual(differing(other), differing(cut))
+                self.assertEqual([table(other, name) for name in names], [table(cut, name) for name in names])
 
     def test_a_function_number_is_that_of_the_function_that_parts(self):
         # Only the third function looks at what the call has set.

@@ -190,6 +190,19 @@ class TableTest(unittest.TestCase):
             self.assertIs(is_table(SMALL, "x", [*base, (((), ("end",)), (), (), cells)]), False)
             self.assertIs(is_table(SMALL, "x", [*base, (((), ("end",)), ("x",), (), cells)]), True)
 
+    def test_names_are_ascending_and_of_the_body(self):
+        cut = Cut(Body(["x", "y", "z"], []), [])
+        base = table(cut, "x")
+        for at in (1, 2):
+            for names, good in [((), True), (("x",), True), (("x", "y", "z"), True), (("x", "z"), True), (("x", "x"), False),
+                                (("y", "x"), False), (("x", "z", "y"), False), (("y", "x", "z"), False), (("x", "w"), False),
+                                (["x"], False), (("x", 0), False), ("xy", False), (("x", "y", "y"), False), (("",), False)]:
+                more = [changed(base[0], at, names)]
+                if at == 2 and good:
+                    # All names are set there, so putting one changes nothing.
+                    self.assertEqual(base[0][1], ("x", "y", "z"))
+                self.assertIs(is_table(cut, "x", [*base, *more]), good)
+
     def test_frames_stand_just_where_calls_go_on(self):
         base = table(SMALL, "x")
         self.assertIs(is_table(SMALL, "x", [*base, (((0,), ()), (), (), (EQUAL, (), (), False))]), False)
