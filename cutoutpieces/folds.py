@@ -3,7 +3,7 @@
 from cutoutpieces.cells import BODY, FIRST, caught, set_at, sign_of, struck
 from cutoutpieces.leads import Leads, with_name, without_name
 from cutoutpieces.plans import need_fit
-from cutoutpieces.searches import searched
+from cutoutpieces.searches import is_like
 from cutoutpieces.sides import Side
 
 EARLY = "early"
@@ -12,11 +12,16 @@ OVER = "over"
 PLACES = ("early", "late", "over")
 
 
-def can_begin(piece, kind):
-    """Whether a body of the kind has the piece: whether each leave and again has a loop."""
+def needs_loop(piece):
+    """Whether a piece has a leave or an again for which it has no loop itself."""
     layout = piece.layout()
     leaving = [at for at in layout.addresses() if layout.row(at)[0] in ("leave", "again")]
-    return "loop" in kind.around or all([layout.in_loop(at) for at in leaving])
+    return not all([layout.in_loop(at) for at in leaving])
+
+
+def leads_through(piece):
+    """Where words lead in a piece."""
+    return Leads(piece.layout(), [((0,), len(piece.rows()))])
 
 
 def place_behind(way, around):
@@ -44,14 +49,14 @@ class Fold:
     the body does, and ("over", None, None).
     """
 
-    def __init__(self, piece, plan, kind, name):
-        layout = piece.layout()
+    def __init__(self, piece, plan, kind, name, leads):
         self._piece = piece
         self._kind = kind
         self._name = name
-        self._begins = can_begin(piece, kind)
-        self._leads = Leads(layout, [((0,), len(piece.rows()))])
-        self._side = Side(name, layout, [plan])
+        # No body of a kind without loops has a piece that needs one.
+        self._begins = "loop" in kind.around or not needs_loop(piece)
+        self._leads = leads
+        self._side = Side(name, piece.layout(), [plan])
 
     def firsts(self):
         """The list of the steps to the states with which bodies begin."""
@@ -71,6 +76,13 @@ class Fold:
             for lead in self._leads.behind(place, names):
                 found.extend(self._word_steps(lead, state))
         return found
+
+    def way_behind(self, state, word):
+        """The way by which the piece is left behind a word at a state, "" being the word at its begin."""
+        place, names, _, _ = state
+        leads = [self._leads.begin(names)] if place == EARLY else self._leads.behind(place, names)
+        stop = [lead[2] for lead in leads if lead[0] == word][0]
+        return stop[1][0]
 
     def _word_steps(self, lead, state):
         _, names, puts, cells = state
@@ -114,14 +126,16 @@ class Fold:
 def breaking(piece, plan, kind, *, most=20000):
     """The ascending list of the names of a piece for which something unlike can be come to."""
     need_fit(piece, plan)
-    return [name for name in piece.names() if not holds_alone(piece, plan, kind, name, most)]
+    leads = leads_through(piece)
+    return [name for name in piece.names() if not is_like(Fold(piece, plan, kind, name, leads), most)]
 
 
 def holds(piece, plan, kind, *, most=20000):
     """Whether body and cut are the same in all bodies of a kind in which a piece stands."""
     need_fit(piece, plan)
+    leads = leads_through(piece)
     for name in piece.names():
-        if not holds_alone(piece, plan, kind, name, most):
+        if not is_like(Fold(piece, plan, kind, name, leads), most):
             return False
     return True
 
@@ -129,9 +143,4 @@ def holds(piece, plan, kind, *, most=20000):
 def holds_name(piece, plan, kind, name, *, most=20000):
     """Whether nothing unlike can be come to for a name of a piece."""
     need_fit(piece, plan)
-    return holds_alone(piece, plan, kind, name, most)
-
-
-def holds_alone(piece, plan, kind, name, most):
-    """Whether nothing unlike can be come to for a name of a piece that the plan fits."""
-    return searched(Fold(piece, plan, kind, name), most)[1] is None
+    return is_like(Fold(piece, plan, kind, name, leads_through(piece)), most)

@@ -4,7 +4,7 @@ from cutoutpieces.cells import FIRST
 from cutoutpieces.holders import Holders
 from cutoutpieces.leads import Leads
 from cutoutpieces.pieces import piece_at
-from cutoutpieces.searches import path_to, searched
+from cutoutpieces.searches import is_like, path_to, searched
 from cutoutpieces.sides import Side
 
 
@@ -43,14 +43,14 @@ def called_names(cut):
 def differing(cut, *, most=20000):
     """The ascending list of the names for which something unlike can be come to."""
     leads = leads_of(cut)
-    return [name for name in called_names(cut) if searched(Product(cut, name, leads), most)[1] is not None]
+    return [name for name in called_names(cut) if not is_like(Product(cut, name, leads), most)]
 
 
 def is_same(cut, *, most=20000):
     """Whether body and cut are the same."""
     leads = leads_of(cut)
     for name in called_names(cut):
-        if searched(Product(cut, name, leads), most)[1] is not None:
+        if not is_like(Product(cut, name, leads), most):
             return False
     return True
 

@@ -36,6 +36,11 @@ def searched(world, most):
     return found, None
 
 
+def is_like(world, most):
+    """Whether nothing unlike can be come to."""
+    return searched(world, most)[1] is None
+
+
 def path_to(found, last):
     """The list of the tuples (state, move) that lead to the last one and end with it."""
     path = [last]
