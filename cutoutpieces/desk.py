@@ -1,9 +1,8 @@
 """Desks: books that are worked with by lines of text."""
 
-from cutoutpieces.bodies import Body
 from cutoutpieces.book import Book
 from cutoutpieces.cutting import play_cut
-from cutoutpieces.errors import BadWord, Full, NoCommand, NoStretch, NoText, Nothing, Refused, TooMany, Wrong
+from cutoutpieces.errors import BadWord, Full, NoCommand, NoStretch, NoText, Nothing, Refused, TooMany
 from cutoutpieces.kinds import kind_of
 from cutoutpieces.leasts import least_plans_in
 from cutoutpieces.notation import joined, show_body, show_cut, show_deed, show_kind, show_plan, show_signs, show_words
@@ -16,8 +15,7 @@ class Desk:
     """A book, and what is answered to lines."""
 
     def __init__(self, body):
-        if not isinstance(body, Body):
-            raise Wrong(0)
+        # The book raises Wrong for what is no Body.
         self._book = Book(body)
 
     def execute(self, line):

@@ -41,9 +41,7 @@ def show_part(part, held):
     """The word for a part of a row."""
     if part == "args":
         return joined(held)
-    if part == "gets" and held == "":
-        return "-"
-    return held
+    return "-" if held == "" else held
 
 
 def show_body(body):

@@ -69,7 +69,7 @@ def read_as(text, parse, show):
         thing = parse(text)
     except PieceError:
         raise NoText() from None
-    # What may be written in several ways is shown in one of them alone.
+    # Parsing asks only for what it needs: all else that is not as it is shown comes out here.
     if show(thing) != text:
         raise NoText()
     return thing
@@ -112,17 +112,13 @@ class Lines:
 
 
 def lines_of(text):
-    """The list of the lines of a text, each of which has its end."""
-    if not text.endswith("\n"):
-        raise NoText()
+    """The list of the lines of a text, each of which should have its end."""
     return text.split("\n")[:-1]
 
 
 def parts_from(words):
     """The list of the parts of a row, those that are lists left out, from the words of its line."""
     forms = [part for part in FORMS[words[0]] if part != "rows"]
-    if len(words) != len(forms) + 1:
-        raise NoText()
     return [part_from(part, word) for part, word in zip(forms, words[1:])]
 
 
@@ -130,9 +126,7 @@ def part_from(part, word):
     """A part of a row, from a word."""
     if part == "args":
         return tuple(parted_at_commas(word))
-    if part == "gets" and word == "-":
-        return ""
-    return word
+    return "" if word == "-" else word
 
 
 def parted_at_commas(word):
@@ -142,9 +136,8 @@ def parted_at_commas(word):
 
 def row_from(text):
     """The row of a text."""
-    lines = Lines(lines_of(text))
-    row = lines.row(0)
-    if lines.has_more() or not is_row(row):
+    row = Lines(lines_of(text)).row(0)
+    if not is_row(row):
         raise NoText()
     return row
 
@@ -157,7 +150,7 @@ def body_from(text):
 def body_of(lines):
     """The Body of lines."""
     words = lines[0].split(" ") if lines else []
-    if len(words) != 2 or words[0] != "given":
+    if len(words) != 2:
         raise NoText()
     others = Lines(lines[1:])
     rows = []
@@ -173,7 +166,7 @@ def plan_from(text):
 
 def plan_of(words):
     """The Plan of words."""
-    if len(words) != 6 or words[::2] != ["in", "back", "told"]:
+    if len(words) != 6:
         raise NoText()
     return Plan(handings_of(words[1]), handings_of(words[3]), parted_at_commas(words[5]))
 
@@ -187,7 +180,7 @@ def handings_of(word):
 def kind_from(text):
     """The Kind of a text."""
     words = text.split(" ")
-    if len(words) != 4 or words[::2] != ["words", "around"]:
+    if len(words) != 4:
         raise NoText()
     told = [part.partition(":") for part in parted_at_commas(words[1])]
     return Kind({name: held.split("+") for name, _, held in told}, parted_at_commas(words[3]))

@@ -4,7 +4,7 @@
 def shifted(address, gap, by):
     """The address, or gap, if the rows behind a gap in its list have moved on by so many."""
     at = len(gap) - 1
-    if len(address) <= at or address[:at] != gap[:at] or address[at] < gap[at]:
+    if address[:at] != gap[:at] or address[at] < gap[at]:
         return address
     return (*address[:at], address[at] + by, *address[at + 1:])
 

@@ -282,6 +282,16 @@ class BookTest(Base):
         book.do(("back", "call"))
         self.done(book, ("out", (1, 0, 1)), Cut(Body([], [do("a"), ("guard", [do("b"), do("d")], [do("e")]), do("f")]), []))
 
+    def test_a_row_around_a_piece_is_not_taken_out_though_others_would_stand_there(self):
+        book = Book(Body([], [("guard", [do("a")], []), ("guard", [do("b")], [])]))
+        book.do(("cut", "f", ((0, 0, 0), 1), NONE))
+        self.refused(book, ("out", (0,)))
+        self.refused(book, ("out", (0, 0, 0)))
+        self.done(book, ("out", (1,)), Cut(Body([], [("guard", [do("a")], [])]), [("f", ((0, 0, 0), 1), NONE)]))
+        book = Book(plain(2))
+        book.do(("cut", "f", ((0,), 1), NONE))
+        self.refused(book, ("out", (0,)))
+
     def test_plans_that_do_not_fit_any_more(self):
         book = Book(Body([], [("loop", "l", [do("a", ["x"], "y"), do("b", ["y"]), do("c")])]))
         book.do(("cut", "f", ((0, 0, 0), 2), Plan({"x": "value"}, {"y": "value"}, [])))
