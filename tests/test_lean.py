@@ -309,6 +309,19 @@ class PartedBodyTest(unittest.TestCase):
                     for words in [[], ["read"], ["strike", "unset"], ["put"], ["look", "set"], KIND_WORDS]:
                         self.need(piece, handed, Kind({"x": words}, around), shortest=False)
 
+    def test_rows_between_rounds(self):
+        # In the first round y is unset, and x is set in the frame alone; in the second one y is set, and x is read.
+        piece = Piece([("guard", [("answer", "z", ["y", "x"])], [("do", "a", [], "x")])])
+        plan = Plan({"x": "state", "y": "state"}, {}, ["answer"])
+        self.assertEqual(self.marks_around(piece, plan, Kind({"y": ["unset", "set"]}, ["loop"])), ["do", "if", "loop"])
+        self.assertEqual(self.marks_around(piece, plan, Kind({"y": ["strike", "set"]}, ["loop"]))[-1], "strike")
+        self.assertIsNone(self.need(piece, plan, Kind({"y": ["unset", "set"]}, ["guard"])))
+        for word in [("leave",), ("again",)]:
+            ended = Piece([*piece.rows(), word])
+            told = Plan({"x": "state", "y": "state"}, {}, ["answer", word[0]])
+            self.assertTrue("if" in self.marks_around(ended, told, Kind({"y": ["unset", "set"]}, ["loop"])))
+            self.need(ended, told, Kind({"y": ["unset", "set", "put"], "x": ["put"]}, AROUND))
+
     def test_a_leave_or_an_again_that_stands_in_no_loop(self):
         for row in [("leave",), ("again",)]:
             piece = Piece([("do", "a", [], "x"), row])
