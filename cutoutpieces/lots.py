@@ -1,6 +1,6 @@
 """Lots: which calls of a cut go together, and calls that are joined and parted."""
 
-from cutoutpieces.choices import choices, is_part_of_one
+from cutoutpieces.choices import choices, is_part
 from cutoutpieces.cuts import Cut
 from cutoutpieces.errors import NoStretch
 from cutoutpieces.plans import Plan
@@ -31,11 +31,8 @@ def right_lots(cut, *, most=20000):
 
 def greatest_lots(cut, *, most=20000):
     """The ascending list of the right lots that are no part of another one."""
-    found = []
-    for lot in sorted(lots_of(cut), key=len, reverse=True):
-        if not is_part_of_one(lot, found) and is_right_lot(cut, lot, most):
-            found.append(lot)
-    return [list(lot) for lot in sorted(found)]
+    right = right_lots(cut, most=most)
+    return [lot for lot in right if not any([is_part(lot, other) for other in right if other != lot])]
 
 
 def small_right_lots(cut, most):

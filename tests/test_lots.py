@@ -171,9 +171,8 @@ class LotsTest(unittest.TestCase):
             if not all(all(held) for held in sizes.values()) or not all(sizes[(i,)] for i in range(len(cut))):
                 continue
             largest = {many: max([max(sizes[lot]) for lot in sizes if len(lot) in many], default=0) for many in [(1,), (1, 2), (1, 2, 3)]}
-            whole = max(sizes[tuple(range(len(cut)))])
             asks = [(alone, largest[(1,)]), (barring, largest[(1, 2)]), (helping, largest[(1, 2)]), (right_lots, largest[(1, 2, 3)]),
-                    (greatest_lots, whole)]
+                    (greatest_lots, largest[(1, 2, 3)])]
             for ask, most in asks:
                 self.assertEqual(ask(cut, most=most), ask(cut))
                 if most > 1:
@@ -184,23 +183,31 @@ class LotsTest(unittest.TestCase):
         self.assertTrue(checked > 30, checked)
 
     def test_states_of_three_calls_are_not_needed_by_all(self):
-        # Each call hands a frame out: by three calls there are more states than by two.
-        rows = [("loop", "l", [("if", "i", [("catch", "a", "x", "put")], [("if", "j", [("catch", "b", "x", "put")], [("catch", "c", "x", "put")])])])]
-        gaps = [(0, 0, 0, 0, 0), (0, 0, 0, 1, 0, 0, 0), (0, 0, 0, 1, 0, 1, 0)]
-        state = Plan({"x": "state"}, {"x": "state"}, [])
-        cut = Cut(Body(["x"], rows), [(mark, (gap, 1), state) for mark, gap in zip("fgh", gaps)])
-        sizes = {tuple(lot): len(table(of_lot(cut, lot), "x")) for lot in lots_of(cut)}
-        two, three = max(sizes[lot] for lot in sizes if len(lot) == 2), sizes[(0, 1, 2)]
-        if two < three:
-            self.assertEqual([barring(cut, most=two), helping(cut, most=two)], [[], []])
+        rows = [("catch", "a", "x", "put"), ("do", "b", [], "x"), ("if", "i", [("do", "c", [], "x")], [])]
+        plans = [Plan({"x": "value"}, {}, []), Plan({}, {"x": "state"}, ["fail"]), Plan({"x": "value"}, {}, [])]
+        cut = Cut(Body(["x"], rows), [(mark, (gap, 1), plan) for mark, gap, plan in zip("fgh", [(0,), (1,), (2, 0, 0)], plans)])
+        sizes = {tuple(lot): len(table(of_lot(cut, lot), "x")) for lot in lots_of(cut) if lot}
+        two, three = max(sizes[lot] for lot in sizes if len(lot) < 3), sizes[(0, 1, 2)]
+        self.assertTrue(two < three, sizes)
+        self.assertEqual([barring(cut, most=two), helping(cut, most=two)], [[], []])
+        for ask in [right_lots, greatest_lots]:
             with self.assertRaises(TooMany):
-                right_lots(cut, most=two)
-        # The lot of all is right: no other one is needed for the greatest one.
+                ask(cut, most=three - 1)
+        self.assertEqual(right_lots(cut, most=three), sorted(lots_of(cut)))
         self.assertEqual(greatest_lots(cut, most=three), [[0, 1, 2]])
-        if three < max(sizes.values()):
-            with self.assertRaises(TooMany):
-                right_lots(cut, most=three)
-        self.assertEqual(right_lots(cut, most=max(sizes.values())), sorted(lots_of(cut)))
+
+    def test_the_states_of_each_lot_are_needed(self):
+        # What is not called hands functions of the body out: by fewer calls there are more states.
+        rows = [("loop", "l", [("if", "i", [("catch", "a", "x", "put")], [("catch", "b", "x", "put")])])]
+        state = Plan({"x": "state"}, {"x": "state"}, [])
+        cut = Cut(Body(["x"], rows), [(mark, (gap, 1), state) for mark, gap in zip("fg", [(0, 0, 0, 0, 0), (0, 0, 0, 1, 0)])])
+        sizes = {tuple(lot): len(table(of_lot(cut, lot), "x")) for lot in lots_of(cut) if lot}
+        self.assertTrue(sizes[(0, 1)] < sizes[(0,)] == sizes[(1,)], sizes)
+        self.assertEqual(greatest_lots(cut, most=sizes[(0,)]), [[0, 1]])
+        for ask in [alone, right_lots, greatest_lots, barring, helping]:
+            with self.assertRaises(TooMany) as caught:
+                ask(cut, most=sizes[(0,)] - 1)
+            self.assertEqual(caught.exception.most, sizes[(0,)] - 1)
 
     def test_asking_again(self):
         for cut in many_cuts()[:15]:
