@@ -57,7 +57,7 @@ class Around:
             self._rows = [(word, self._rows, others)]
         self._gap = (0, 0, *self._gap)
 
-    def add(self, ahead, behind):
+    def flank(self, ahead, behind):
         """Puts rows ahead of all rows, and others behind them."""
         self._rows = [*ahead, *self._rows, *behind]
         self._gap = (self._gap[0] + len(ahead), *self._gap[1:])
@@ -99,10 +99,10 @@ def body_around(piece, kind, fold, path):
     elif "fail" in trip.exits:
         around.wrap("guard", [])
     if looped:
-        around.add(around.choices_for(trip.rests[1:trip.rounds]), [])
+        around.flank(around.choices_for(trip.rests[1:trip.rounds]), [])
         around.wrap("loop", [])
     # What leaves the inner loop comes again by an outer one.
     if not lasting and "leave" in trip.exits[:trip.rounds - 1]:
         around.wrap("loop", [])
-    around.add(ahead, behind)
+    around.flank(ahead, behind)
     return around.made(trip.known)

@@ -76,7 +76,7 @@ class Book:
         if not 0 <= many <= len(self._log):
             raise NoEntry(many)
         book = Book(self._first)
-        for deed in self._log[:many]:
+        for deed in self.log()[:many]:
             book.do(deed)
         return book
 

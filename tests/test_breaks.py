@@ -183,6 +183,9 @@ class BreaksTest(unittest.TestCase):
                 with self.assertRaises(NoName) as caught:
                     ask(piece, [], name, ("value", "none"))
                 self.assertEqual(caught.exception.name, name)
+                # Also if nothing is handed.
+                with self.assertRaises(NoName):
+                    ask(piece, [], name, ("none", "none"))
             for told, way in [([], "again"), (("again", "again", "fail"), "leave"), (["leave", "answer"], "again")]:
                 with self.assertRaises(Untold) as caught:
                     ask(piece, told, "x", ("none", "none"))
