@@ -91,6 +91,11 @@ def is_frontier(piece, told, name, pair, words, wrong, right, *, most=20000):
     asked = Asked(piece, told, name, pair, most)
     if not are_sets(wrong, words) or not are_sets(right, words):
         return False
+    return is_frontier_of(asked, words, sorted(set(wrong)), sorted(set(right)), most)
+
+
+def is_frontier_of(asked, words, wrong, right, most):
+    """Whether sets, wrong and right ones, each of which stands once, tell of all sets whether they are right."""
     if not all([has_one_as_part(held, wrong) or is_part_of_one(held, right) for held in all_sets(words)]):
         return False
     # One of both would be told wrong.

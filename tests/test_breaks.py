@@ -138,6 +138,9 @@ class BreaksTest(unittest.TestCase):
         self.assertIs(ask([], []), False)
         self.assertIs(ask([()], []), False)
         self.assertIs(ask([], [tuple(FIVE)]), False)
+        # A set may stand there as often as thousands of times.
+        self.assertIs(ask(least * 3000, greatest + [()] * 9000), True)
+        self.assertIs(ask(least * 3000, greatest + [("look",)] * 9000), False)
         # Each set by itself.
         right = judged(TWO, [], "x", pair, FIVE)
         self.assertIs(ask([held for held in right if not right[held]], [held for held in right if right[held]]), True)
