@@ -78,9 +78,12 @@ class Cut:
 
     def call(self, mark):
         """The call with a mark."""
-        if mark not in self:
-            raise NoMark(mark)
-        return self._calls[self.marks().index(mark)]
+        # Only a name is compared with marks: any value may be asked for.
+        if is_name(mark):
+            for held in self._calls:
+                if held[0] == mark:
+                    return held
+        raise NoMark(mark)
 
     def with_call(self, mark, stretch, plan):
         """The Cut with a further call."""

@@ -514,6 +514,38 @@ class BookTest(Base):
                 book["f"] = thing
         self.assertEqual([book["f"], len(book)], [plan, 2])
 
+    def test_plans_by_marks_of_several_calls(self):
+        plans = {"h": NONE, "f": Plan({"x": "value"}, {}, []), "g": Plan({}, {"y": "state"}, ["fail"])}
+        book = Book(Body(["x"], [do("a", ["x"], "y"), do("b", ["x"], "y"), do("c", ["x"], "y")]))
+        for k, mark in enumerate(plans):
+            book.do(("cut", mark, ((2 - k,), 1), plans[mark]))
+        cut = book.cut
+        self.assertEqual({mark: book[mark] for mark in plans}, plans)
+        for thing in odd_values() + ["a", "b", "c", "x", "y", "i", ["f"], ("f",), {"f": 0}, b"f", cut.calls()]:
+            self.assertIs(thing in book, False)
+            with self.assertRaises(NoMark) as caught:
+                book[thing]
+            self.assertEqual(repr(caught.exception.mark), repr(thing))
+        for thing in [True, None, ["f"], ("f",), "a", cut]:
+            with self.assertRaises(NoMark) as caught:
+                book[thing]
+            self.assertIs(caught.exception.mark, thing)
+        self.assertEqual([book.cut, len(book)], [cut, 3])
+        other = Plan({"x": "state"}, {}, ["shut"])
+        for k, mark in enumerate("fgh"):
+            book[mark] = other
+            plans[mark] = other
+            self.assertEqual({mark: book[mark] for mark in plans}, plans)
+            self.assertEqual([book.log()[-1], len(book)], [("plan", mark, other), 4 + k])
+        for mark in ["a", "x", "i"]:
+            with self.assertRaises(Refused) as caught:
+                book[mark] = other
+            self.assertEqual(caught.exception.deed, ("plan", mark, other))
+        for thing in [True, None, ["f"], ("f",), 0, b"f", cut]:
+            with self.assertRaises(BadDeed):
+                book[thing] = other
+        self.assertEqual([{mark: book[mark] for mark in plans}, len(book)], [plans, 6])
+
     def test_equal(self):
         book, other = Book(plain(2)), Book(plain(2))
         self.assertTrue(book == other)

@@ -70,6 +70,24 @@ class CutTest(unittest.TestCase):
                     ask(value)
                 self.assertIs(caught.exception.mark, value)
 
+    def test_marks_of_several_calls(self):
+        calls = [("s", ((0,), 1), NONE), ("r", ((1, 0, 0), 1), Plan({"x": "value"}, {}, [])), ("p", ((1, 1, 0), 1), NONE),
+                 ("q", ((2, 0, 0), 2), LEAVE)]
+        fail = Plan({}, {}, ["fail", "leave"])
+        for given in itertools.permutations(calls):
+            cut = Cut(BODY, given)
+            for k, call in enumerate(calls):
+                self.assertEqual(cut.call(call[0]), call)
+                self.assertEqual(cut.without(call[0]).calls(), calls[:k] + calls[k + 1:])
+                self.assertEqual(cut.with_plan(call[0], fail).calls(), [*calls[:k], (*call[:2], fail), *calls[k + 1:]])
+            for value in [*odd_values(), *BODY.marks(), *BODY.names(), *calls, "ss", "", ("s",), ["s"], {"s": 0}, b"s"]:
+                for ask in [cut.call, cut.without, lambda mark: cut.with_plan(mark, NONE), lambda mark: cut.with_plan(mark, None)]:
+                    with self.assertRaises(NoMark) as caught:
+                        ask(value)
+                    self.assertIs(caught.exception.mark, value)
+            self.assertEqual([cut.calls(), cut.marks(), len(cut)], [calls, ["s", "r", "p", "q"], 4])
+            self.assertTrue(cut == Cut(BODY, calls))
+
     def test_wrong(self):
         for value in odd_values():
             if not isinstance(value, Body):
