@@ -17,16 +17,16 @@ class Trip:
     last one.
     """
 
-    def __init__(self, fold, path):
+    def __init__(self, ground, path):
         self.known = path[0][1][1]
         self.rounds = 0
         self.exits = []
         self.rests = [[]]
         places = [state[0] for state, _ in path[1:]]
         for (state, move), following in zip(path[1:], [*places[1:], None]):
-            self._take(fold, state, move, following)
+            self._take(ground, state, move, following)
 
-    def _take(self, fold, state, move, following):
+    def _take(self, ground, state, move, following):
         outside = state[0] == EARLY or state[0] == LATE
         if move[0] == "row":
             self.rests[-1].append((move[1], move[2]))
@@ -36,7 +36,7 @@ class Trip:
             if outside:
                 self.rounds += 1
             if following == EARLY or following == LATE:
-                self.exits.append(fold.way_behind(state, move[1]))
+                self.exits.append(ground.way_behind(state[0], state[1], move[1]))
                 self.rests.append([])
 
 
@@ -83,9 +83,9 @@ class Around:
         return ("do", mark, [name] if word == "read" else [], name if word == "set" else "")
 
 
-def body_around(piece, kind, fold, path):
+def body_around(piece, kind, ground, path):
     """A tuple: a Body of the kind in which a run can go a path of a fold of the piece, and the piece's stretch."""
-    trip = Trip(fold, path)
+    trip = Trip(ground, path)
     around = Around(piece)
     ahead = around.rows_for(trip.rests[0])
     behind = around.rows_for(trip.rests[trip.rounds]) if len(trip.exits) == trip.rounds else []

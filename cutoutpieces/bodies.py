@@ -2,8 +2,8 @@
 
 from cutoutpieces.errors import NoGap, NoMark, NoRow, Wrong
 from cutoutpieces.layouts import Layout, spliced
-from cutoutpieces.limits import need_last, need_loops, need_room, need_single_marks
-from cutoutpieces.rows import are_rows, frozen, is_row, lists_of, names_in, renamed_row
+from cutoutpieces.limits import names_within_room, need_last, need_loops, need_single_marks
+from cutoutpieces.rows import all_frozen, are_rows, is_row, lists_of, renamed_row
 from cutoutpieces.words import are_names, is_address, is_integer, is_name
 
 MOST_GIVEN = 4
@@ -22,15 +22,15 @@ class Body:
             raise Wrong(0)
         if not are_rows(rows):
             raise Wrong(1)
-        need_room(given, rows)
-        need_single_marks(rows)
         self._given = tuple(sorted(given))
-        self._rows = tuple([frozen(row) for row in rows])
+        self._rows = all_frozen(rows)
         self._layout = Layout(self._rows)
+        self._names = names_within_room(given, self._layout)
+        need_single_marks(self._layout)
         need_last(self._layout)
         need_loops(self._layout)
         self._addresses = self._layout.addresses()
-        self._at_marks = self._layout.by_marks()
+        self._at_marks = self._layout.at_marks
 
     @property
     def given(self):
@@ -67,7 +67,7 @@ class Body:
 
     def names(self):
         """The ascending list of the given names and of those in rows."""
-        return sorted(set([*self._given, *names_in(self._rows)]))
+        return list(self._names)
 
     def marks(self):
         """The ascending list of the marks."""

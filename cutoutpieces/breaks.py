@@ -6,7 +6,7 @@ A set of words is an ascending tuple. What is wrong for a set is wrong for each 
 from cutoutpieces.asks import need_name, pair_plan
 from cutoutpieces.choices import choices, has_one_as_part, is_part, is_part_of_one
 from cutoutpieces.errors import TooMany
-from cutoutpieces.folds import Fold, leads_through
+from cutoutpieces.folds import FoldGround, fold_world, leads_through
 from cutoutpieces.kinds import AROUND, WORDS, Kind
 from cutoutpieces.plans import need_fit
 from cutoutpieces.searches import is_like
@@ -29,7 +29,8 @@ class Asked:
         """Whether the pair is right for a set."""
         own = [word for word in held if word in WORDS]
         kind = Kind({self._name: own}, [word for word in held if word in AROUND])
-        return is_like(Fold(self._piece, self._plan, kind, self._name, self._leads), self._most)
+        ground = FoldGround(self._piece, kind, self._leads)
+        return is_like(fold_world(ground, self._plan, self._name), self._most)
 
     def is_known_as(self, held, right):
         """Whether a set is right, or is wrong; None if that takes too many states."""

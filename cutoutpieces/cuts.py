@@ -2,8 +2,9 @@
 
 from cutoutpieces.bodies import Body
 from cutoutpieces.errors import BadMark, NoMark, NoStretch, Overlap, Wrong
-from cutoutpieces.pieces import has_stretch_form, is_stretch, piece_at, stands_in
-from cutoutpieces.plans import Plan, need_fit
+from cutoutpieces.pieces import has_stretch_form, rows_at, stands_in
+from cutoutpieces.plans import Plan, need_fit_for
+from cutoutpieces.rows import names_in
 from cutoutpieces.words import is_list, is_name
 
 
@@ -21,16 +22,17 @@ def stretch_of(call):
 
 def need_stretches(body, calls):
     """Raises NoStretch with the first stretch that is none of the body."""
+    layout = body.layout()
     for _, stretch, _ in calls:
-        if not is_stretch(body, stretch):
+        if not layout.has_rows(stretch[0], stretch[1]):
             raise NoStretch(stretch)
 
 
 def need_free_marks(body, calls):
     """Raises BadMark with the first mark that a row or an earlier call has."""
-    used = body.marks()
+    used = []
     for mark, _, _ in calls:
-        if mark in used:
+        if mark in body or mark in used:
             raise BadMark(mark)
         used.append(mark)
 
@@ -47,6 +49,17 @@ def have_common(stretch, other):
     return stands_in(stretch[0], other) or stands_in(other[0], stretch)
 
 
+def needed_names(body, calls):
+    """The ascending list of the names of all pieces that are called; raises NoName or Untold if a plan does not fit."""
+    found = []
+    for _, stretch, plan in calls:
+        rows = rows_at(body, stretch)
+        names = names_in(rows)
+        need_fit_for(names, rows, plan)
+        found.extend(names)
+    return sorted(set(found))
+
+
 class Cut:
     """A body with calls in it, which never changes."""
 
@@ -58,8 +71,7 @@ class Cut:
         need_stretches(body, calls)
         need_free_marks(body, calls)
         need_apart(calls)
-        for _, stretch, plan in calls:
-            need_fit(piece_at(body, stretch), plan)
+        self._called = needed_names(body, calls)
         self._body = body
         self._calls = tuple(sorted([tuple(call) for call in calls], key=stretch_of))
 
@@ -71,6 +83,10 @@ class Cut:
     def calls(self):
         """The list of the calls, by place."""
         return list(self._calls)
+
+    def called_names(self):
+        """The ascending list of the names of the pieces that are called."""
+        return list(self._called)
 
     def marks(self):
         """The list of the marks of the calls, by place."""

@@ -1,10 +1,11 @@
 """Folds: a piece with a plan in all bodies of a kind at once."""
 
-from cutoutpieces.cells import BODY, FIRST, caught, set_at, sign_of, struck
+from cutoutpieces.grounds import Ground
 from cutoutpieces.leads import Leads, with_name, without_name
 from cutoutpieces.plans import need_fit
 from cutoutpieces.searches import is_like
-from cutoutpieces.sides import Side
+from cutoutpieces.trails import Trail
+from cutoutpieces.worlds import World
 
 EARLY = "early"
 LATE = "late"
@@ -42,100 +43,90 @@ def first_names(piece, kind):
     return found
 
 
-class Fold:
-    """What is searched for one name of a piece in the bodies of a kind.
+class FoldGround(Ground):
+    """The standings around a piece, and within it, in all bodies of a kind, and the edges that lead on from each.
 
-    Beside the moves of sides there are ("begin", names, None), ("row", name, word) for what a row of
+    Beside the moves of grounds there are ("begin", names, None), ("row", name, word) for what a row of
     the body does, and ("over", None, None).
     """
 
-    def __init__(self, piece, plan, kind, name, leads):
+    def __init__(self, piece, kind, leads):
+        Ground.__init__(self, (), leads)
         self._piece = piece
         self._kind = kind
-        self._name = name
         # No body of a kind without loops has a piece that needs one.
         self._begins = "loop" in kind.around or not needs_loop(piece)
-        self._leads = leads
-        self._side = Side(name, piece.layout(), [plan])
 
-    def firsts(self):
-        """The list of the steps to the states with which bodies begin."""
+    def begin(self):
+        """The list of the edges to the standings with which bodies begin."""
         choices = first_names(self._piece, self._kind)
-        return [(("begin", names, None), (EARLY, names, (), FIRST)) for names in choices]
+        return [(("begin", names, None), [], self.number_of((EARLY, names, ()))) for names in choices]
 
-    def steps(self, state):
-        """The list of the steps from a state."""
-        place, names, puts, cells = state
-        found = self._side.use_steps(state)
-        if place == EARLY or place == LATE:
-            found.extend(self._row_steps(state))
-            found.append((("over", None, None), (OVER, names, puts, cells)))
-        if place == EARLY and self._begins:
-            found.extend(self._word_steps(self._leads.begin(names), state))
-        if place not in PLACES:
-            for lead in self._leads.behind(place, names):
-                found.extend(self._word_steps(lead, state))
-        return found
+    def way_behind(self, place, names, word):
+        """The way by which the piece is left behind a word at a place, "" being the word at its begin."""
+        return [spot[1][0] for other, _, spot, _, _ in self._leads_from(place, names) if other == word][0]
 
-    def way_behind(self, state, word):
-        """The way by which the piece is left behind a word at a state, "" being the word at its begin."""
-        place, names, _, _ = state
-        leads = [self._leads.begin(names)] if place == EARLY else self._leads.behind(place, names)
-        stop = [lead[2] for lead in leads if lead[0] == word][0]
-        return stop[1][0]
-
-    def _word_steps(self, lead, state):
-        _, names, puts, cells = state
-        return [(move, self._led_on(following)) for move, following in self._side.word_steps(lead, names, puts, cells)]
-
-    def _led_on(self, state):
-        """The state with the place to which the way leads on, if the piece is left there."""
-        if state is None or state[0][0] != ():
-            return state
-        spot, names, puts, cells = state
-        return place_behind(spot[1][0], self._kind.around), names, puts, cells
-
-    def _row_steps(self, state):
-        """The list of the steps by what the rows of the body do with names."""
+    def _edges_on(self, place, names, puts):
         found = []
-        for name in self._piece.names():
-            for word in self._kind.of(name):
-                if name == self._name and word in ("read", "strike") and sign_of(state[3]) != "=":
-                    found.append((("row", name, word), None))
-                else:
-                    found.append((("row", name, word), self._behind_row(state, name, word)))
-        return found
+        if place == EARLY or place == LATE:
+            found.extend(self._row_edges(place, names, puts))
+            found.append((("over", None, None), [], self.number_of((OVER, names, puts))))
+        return [*found, *[self._edge(lead, puts) for lead in self._leads_from(place, names)]]
 
-    def _behind_row(self, state, name, word):
-        place, names, puts, cells = state
+    def _leads_from(self, place, names):
+        if place == EARLY:
+            return [self._leads.begin(names)] if self._begins else []
+        return [] if place in PLACES else self._leads.behind(place, names)
+
+    def _place_of(self, spot):
+        """The place to which the way leads on from a spot of the piece, if this is left there; otherwise the spot."""
+        return spot if spot[0] != () else place_behind(spot[1][0], self._kind.around)
+
+    def _row_edges(self, place, names, puts):
+        """The list of the edges along what the rows of the body do with names."""
+        # "unset" tells of no row.
+        done = [(name, word) for name in self._piece.names() for word in self._kind.of(name) if word != "unset"]
+        return [self._row_edge(place, names, puts, name, word) for name, word in done]
+
+    def _row_edge(self, place, names, puts, name, word):
+        acts = []
         if word == "set":
-            following = set_at(cells, BODY, name in names)
-            return place, with_name(names, name), puts, self._own(name, cells, following)
-        if word == "strike" and name in names:
-            return place, without_name(names, name), puts, self._own(name, cells, struck(cells))
-        if word == "look" or word == "put":
-            more = with_name(puts, name) if word == "put" else puts
-            return place, names, more, self._own(name, cells, caught(cells, word))
-        return state
+            acts.append(("set", name))
+            names = with_name(names, name)
+        elif word == "look" or word == "put":
+            acts.append(("catch", "", name, word))
+            puts = with_name(puts, name) if word == "put" else puts
+        else:
+            acts.append(("need", [name]))
+            if word == "strike" and name in names:
+                acts.append(("strike", name))
+                names = without_name(names, name)
+        return ("row", name, word), acts, self.number_of((place, names, puts))
 
-    def _own(self, name, cells, following):
-        """The following cells, if the name is theirs, otherwise the cells as they are."""
-        return following if name == self._name else cells
+
+def fold_ground(piece, kind):
+    """What is walked of a piece in all bodies of a kind."""
+    return FoldGround(piece, kind, leads_through(piece))
+
+
+def fold_world(ground, plan, name):
+    """What is searched for one name of a piece with a plan."""
+    return World(Trail(ground, name), [(plan[name], plan.told)])
 
 
 def breaking(piece, plan, kind, *, most=20000):
     """The ascending list of the names of a piece for which something unlike can be come to."""
     need_fit(piece, plan)
-    leads = leads_through(piece)
-    return [name for name in piece.names() if not is_like(Fold(piece, plan, kind, name, leads), most)]
+    ground = fold_ground(piece, kind)
+    return [name for name in piece.names() if not is_like(fold_world(ground, plan, name), most)]
 
 
 def holds(piece, plan, kind, *, most=20000):
     """Whether body and cut are the same in all bodies of a kind in which a piece stands."""
     need_fit(piece, plan)
-    leads = leads_through(piece)
+    ground = fold_ground(piece, kind)
     for name in piece.names():
-        if not is_like(Fold(piece, plan, kind, name, leads), most):
+        if not is_like(fold_world(ground, plan, name), most):
             return False
     return True
 
@@ -143,4 +134,4 @@ def holds(piece, plan, kind, *, most=20000):
 def holds_name(piece, plan, kind, name, *, most=20000):
     """Whether nothing unlike can be come to for a name of a piece."""
     need_fit(piece, plan)
-    return is_like(Fold(piece, plan, kind, name, leads_through(piece)), most)
+    return is_like(fold_world(fold_ground(piece, kind), plan, name), most)

@@ -1,7 +1,7 @@
 """Fold tables: closed lists of states that show that a piece holds in all bodies of a kind."""
 
 from cutoutpieces.cells import are_cells
-from cutoutpieces.folds import PLACES, Fold, leads_through
+from cutoutpieces.folds import PLACES, fold_ground, fold_world
 from cutoutpieces.plans import need_fit
 from cutoutpieces.searches import all_states, is_closed
 from cutoutpieces.spots import is_wait, waits_at
@@ -12,7 +12,7 @@ from cutoutpieces.words import is_one_of
 def fold_table(piece, plan, kind, name, *, most=20000):
     """The list of all states of a name, those around the piece first, None if something unlike can be come to."""
     need_fit(piece, plan)
-    found = all_states(Fold(piece, plan, kind, name, leads_through(piece)), most)
+    found = all_states(fold_world(fold_ground(piece, kind), plan, name), most)
     return None if found is None else sorted_states(found)
 
 
@@ -22,7 +22,7 @@ def is_fold_table(piece, plan, kind, name, thing):
     names = tuple(piece.names())
     if not isinstance(thing, list) or not all([is_state(piece, names, name, state) for state in thing]):
         return False
-    return is_closed(Fold(piece, plan, kind, name, leads_through(piece)), thing)
+    return is_closed(fold_world(fold_ground(piece, kind), plan, name), thing)
 
 
 def is_state(piece, names, name, thing):

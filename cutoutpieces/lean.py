@@ -3,12 +3,12 @@
 from cutoutpieces.arounds import body_around
 from cutoutpieces.asks import cut_at
 from cutoutpieces.errors import PieceError
-from cutoutpieces.folds import Fold, leads_through
+from cutoutpieces.folds import fold_ground, fold_world
 from cutoutpieces.pieces import piece_at, stands_in
 from cutoutpieces.plans import need_fit
 from cutoutpieces.products import is_same, parting
 from cutoutpieces.rows import lists_of
-from cutoutpieces.searches import path_to, searched
+from cutoutpieces.searches import path_of
 from cutoutpieces.shifts import behind_row, leads_into, lifted, shifted
 
 # For bodies that are made here: which states they have is not the caller's business.
@@ -66,12 +66,11 @@ def first_parted(pairs, plan, most):
 def parted_body(piece, plan, kind, *, most=20000):
     """None if the piece holds; otherwise a lean Body of the kind, the piece's stretch, and words that part it."""
     need_fit(piece, plan)
-    leads = leads_through(piece)
+    ground = fold_ground(piece, kind)
     for name in piece.names():
-        fold = Fold(piece, plan, kind, name, leads)
-        found, last = searched(fold, most)
-        if last is not None:
-            body, stretch = made_lean(body_around(piece, kind, fold, path_to(found, last)), plan)
+        path = path_of(fold_world(ground, plan, name), most)
+        if path is not None:
+            body, stretch = made_lean(body_around(piece, kind, ground, path), plan)
             return body, stretch, parting(cut_at(body, stretch, plan), most=NO_LIMIT)
     return None
 

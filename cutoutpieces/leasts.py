@@ -1,13 +1,15 @@
 """Leasts: the least plans that are right, and what parts those that are less."""
 
-from cutoutpieces.asks import InBody, InKind, cut_at, first_right_pair, has_right_pair
+from cutoutpieces.asks import cut_at, first_right_pair, has_right_pair, in_body, in_kind
 from cutoutpieces.choices import choices
 from cutoutpieces.errors import TooMany
 from cutoutpieces.lean import parted_body
 from cutoutpieces.pieces import piece_at
 from cutoutpieces.plans import Plan, need_fit, needed_ways
 from cutoutpieces.products import parting
-from cutoutpieces.words import HANDINGS
+
+# What each handing is when it is less by one.
+LESSER = {"state": "value", "value": "none"}
 
 
 def tellings(piece):
@@ -19,12 +21,12 @@ def tellings(piece):
 
 def least_plans(piece, kind, *, most=20000):
     """The list of the least plans, in all bodies of a kind."""
-    return least_plans_of(InKind(piece, kind), most)
+    return least_plans_of(in_kind(piece, kind), most)
 
 
 def least_plans_in(body, stretch, *, most=20000):
     """The list of the least plans, in one body."""
-    return least_plans_of(InBody(body, stretch), most)
+    return least_plans_of(in_body(body, stretch), most)
 
 
 def least_plans_of(asks, most):
@@ -52,12 +54,12 @@ def plan_of_first_pairs(asks, told, most):
 
 def never(piece, kind, *, most=20000):
     """Whether no plan is right in all bodies of a kind."""
-    return is_never(InKind(piece, kind), most)
+    return is_never(in_kind(piece, kind), most)
 
 
 def never_in(body, stretch, *, most=20000):
     """Whether no plan is right in one body."""
-    return is_never(InBody(body, stretch), most)
+    return is_never(in_body(body, stretch), most)
 
 
 def is_never(asks, most):
@@ -88,7 +90,7 @@ def is_right_telling(asks, told, most):
 
 def bars(piece, kind, *, most=20000):
     """None if some plan is right; otherwise the dict from all tellings to the names that have no right pair then."""
-    asks = InKind(piece, kind)
+    asks = in_kind(piece, kind)
     unknown = False
     found = {}
     for told in sorted(tellings(piece)):
@@ -116,7 +118,7 @@ def lesser_plans(piece, plan):
 
 def lessened(handings, name):
     """The dict of handings in which one is the next lesser."""
-    return {**handings, name: HANDINGS[HANDINGS.index(handings[name]) - 1]}
+    return {**handings, name: LESSER[handings[name]]}
 
 
 def against(piece, plan, kind, *, most=20000):

@@ -1,7 +1,7 @@
 """Notation: texts of rows, bodies, plans, kinds, cuts, words, signs and deeds."""
 
 from cutoutpieces.deeds import DEEDS
-from cutoutpieces.rows import held_as, parts_of
+from cutoutpieces.rows import inner_lists, parts_of
 
 # What ends each list of a row.
 ENDS = {"if": ("else", "over"), "loop": ("over",), "guard": ("other", "over"), "last": ("ending", "over")}
@@ -26,7 +26,7 @@ def row_lines(row):
     """The list of the lines of a row."""
     shown = [show_part(part, held) for part, held in parts_of(row) if part != "rows"]
     lines = [" ".join([row[0], *shown])]
-    for rows, end in zip(held_as(row, "rows"), ENDS.get(row[0], ())):
+    for rows, end in zip(inner_lists(row), ENDS.get(row[0], ())):
         lines.extend(lines_of_rows(rows))
         lines.append(end)
     return lines

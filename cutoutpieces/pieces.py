@@ -2,8 +2,8 @@
 
 from cutoutpieces.errors import NoStretch, Wrong
 from cutoutpieces.layouts import Layout
-from cutoutpieces.limits import need_last, need_room, need_single_marks
-from cutoutpieces.rows import are_rows, frozen, marks_in, names_in
+from cutoutpieces.limits import names_within_room, need_last, need_single_marks
+from cutoutpieces.rows import all_frozen, are_rows
 from cutoutpieces.words import is_address, is_integer
 
 
@@ -13,10 +13,10 @@ class Piece:
     def __init__(self, rows):
         if not are_rows(rows) or len(rows) == 0:
             raise Wrong(0)
-        need_room([], rows)
-        need_single_marks(rows)
-        self._rows = tuple([frozen(row) for row in rows])
+        self._rows = all_frozen(rows)
         self._layout = Layout(self._rows)
+        self._names = names_within_room([], self._layout)
+        need_single_marks(self._layout)
         need_last(self._layout)
         self._addresses = self._layout.addresses()
 
@@ -30,11 +30,11 @@ class Piece:
 
     def names(self):
         """The ascending list of the names."""
-        return names_in(self._rows)
+        return list(self._names)
 
     def marks(self):
         """The ascending list of the marks."""
-        return sorted(marks_in(self._rows))
+        return sorted(self._layout.at_marks)
 
     def ways(self):
         """The ascending list of the ways out by which the rows can be left by their form."""
@@ -109,11 +109,7 @@ def has_stretch_form(thing):
 
 def is_stretch(body, thing):
     """Whether any value is a stretch of a body."""
-    if not has_stretch_form(thing):
-        return False
-    gap, many = thing
-    layout = body.layout()
-    return layout.has_gap(gap) and gap[-1] + many <= len(layout.rows_in(gap[:-1]))
+    return has_stretch_form(thing) and body.layout().has_rows(thing[0], thing[1])
 
 
 def stretches(body):
@@ -128,8 +124,13 @@ def piece_at(body, stretch):
     """The Piece of the rows of a stretch of a body."""
     if not is_stretch(body, stretch):
         raise NoStretch(stretch)
+    return Piece(rows_at(body, stretch))
+
+
+def rows_at(body, stretch):
+    """The tuple of the rows of a stretch of a body."""
     gap, many = stretch
-    return Piece(body.rows_from(gap)[:many])
+    return body.layout().rows_in(gap[:-1])[gap[-1]:gap[-1] + many]
 
 
 def stands_in(address, stretch):

@@ -1,11 +1,19 @@
 """Plans: how names are handed to a call and back, and which ways out are told."""
 
 from cutoutpieces.errors import NoName, Untold, Wrong
-from cutoutpieces.words import HANDINGS, is_handing, is_list, is_name, is_way
+from cutoutpieces.pieces import ways_of
+from cutoutpieces.rows import all_rows
+from cutoutpieces.words import is_handing, is_list, is_name, is_way
 
 # A frame has no loop around it and no body to answer from, so what leaves a
 # piece by these ways has to be done by the caller.
 NEEDED = ("again", "answer", "leave")
+WEIGHTS = {"none": 0, "value": 1, "state": 2}
+# Those of less weight first, of one weight those whose first handing weighs less.
+PAIRS = (
+    ("none", "none"), ("none", "value"), ("value", "none"), ("none", "state"), ("value", "value"), ("state", "none"),
+    ("value", "state"), ("state", "value"), ("state", "state"),
+)
 
 
 def are_handings(thing):
@@ -83,12 +91,12 @@ class Plan:
 
 def is_pair_within(pair, other):
     """Whether each handing of a pair is at most that of another one."""
-    return all([HANDINGS.index(mine) <= HANDINGS.index(its) for mine, its in zip(pair, other)])
+    return all([WEIGHTS[mine] <= WEIGHTS[its] for mine, its in zip(pair, other)])
 
 
 def pair_weight(pair):
     """What the two handings of a pair weigh."""
-    return HANDINGS.index(pair[0]) + HANDINGS.index(pair[1])
+    return WEIGHTS[pair[0]] + WEIGHTS[pair[1]]
 
 
 def weight(plan):
@@ -98,21 +106,31 @@ def weight(plan):
 
 def all_pairs():
     """The list of the nine pairs, the lighter ones first."""
-    pairs = [(handed_in, handed_back) for handed_in in HANDINGS for handed_back in HANDINGS]
-    return sorted(pairs, key=pair_weight)
+    return list(PAIRS)
 
 
 def needed_ways(piece):
     """The ascending list of the ways of a piece that each plan for it has to tell."""
-    return [way for way in piece.ways() if way in NEEDED]
+    return needed_by(piece.rows())
+
+
+def needed_by(rows):
+    """The ascending list of the ways of rows that each plan for them has to tell."""
+    if not any([row[0] in NEEDED for row in all_rows(rows)]):
+        return []
+    return [way for way in ways_of(rows) if way in NEEDED]
 
 
 def need_fit(piece, plan):
     """Raises NoName or Untold if a plan does not fit a piece."""
-    names = piece.names()
+    need_fit_for(piece.names(), piece.rows(), plan)
+
+
+def need_fit_for(names, rows, plan):
+    """Raises NoName or Untold if a plan does not fit rows in which these names stand."""
     for name in plan.names():
         if name not in names:
             raise NoName(name)
-    for way in needed_ways(piece):
+    for way in needed_by(rows):
         if way not in plan.told:
             raise Untold(way)

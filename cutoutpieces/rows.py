@@ -19,6 +19,9 @@ FORMS = {
     "guard": ("rows", "rows"),
     "last": ("rows", "rows"),
 }
+# How many parts, the first word among them, stand ahead of the lists of a row. Nothing stands behind these.
+AHEAD_OF_LISTS = {"if": 2, "loop": 2, "guard": 1, "last": 1}
+UNMARKED = ("leave", "again", "guard", "last")
 
 
 def is_row(thing):
@@ -53,39 +56,51 @@ def is_part(part, thing):
     return is_name(thing)
 
 
-def held_as(row, wanted):
-    """The list of what a row has as this part."""
-    return [held for part, held in parts_of(row) if part == wanted]
+def inner_lists(row):
+    """The tuple of the lists of a row, as they stand in it."""
+    return row[AHEAD_OF_LISTS[row[0]]:] if row[0] in AHEAD_OF_LISTS else ()
 
 
 def frozen(row):
     """The row with tuples for lists."""
-    return renamed([row], {}, {})[0]
+    if row[0] in AHEAD_OF_LISTS:
+        return with_lists(row, inner_lists(row))
+    if row[0] in ("do", "yield", "answer"):
+        return (row[0], row[1], tuple(row[2]), *row[3:])
+    return row
+
+
+def all_frozen(rows):
+    """The tuple of the rows with tuples for lists."""
+    return tuple([frozen(row) for row in rows])
 
 
 def lists_of(row):
     """The list of the lists of a row, each a list of rows."""
-    return [[frozen(inner) for inner in rows] for rows in held_as(row, "rows")]
+    return [[frozen(inner) for inner in rows] for rows in inner_lists(row)]
 
 
 def with_lists(row, lists):
     """The row with these lists of rows in the place of its own."""
-    ahead = frozen(row)[:len(row) - len(lists)]
-    return (*ahead, *[tuple([frozen(inner) for inner in rows]) for rows in lists])
+    if row[0] not in AHEAD_OF_LISTS:
+        return frozen(row)
+    return (*row[:AHEAD_OF_LISTS[row[0]]], *[all_frozen(rows) for rows in lists])
+
+
+def args_of(row):
+    """The names, in order, whose values a row shows, those of a strike left out."""
+    return row[2] if row[0] in ("do", "yield", "answer") else ()
 
 
 def reads(row):
     """The list of the names that a row needs."""
-    if row[0] == "strike":
-        return held_as(row, "name")
-    return [name for args in held_as(row, "args") for name in args]
+    return [row[2]] if row[0] == "strike" else list(args_of(row))
 
 
 def sets(row):
     """The name that a deed sets, or None."""
-    for name in held_as(row, "gets"):
-        if name != "":
-            return name
+    if row[0] in ("do", "yield") and row[3] != "":
+        return row[3]
     return None
 
 
@@ -94,26 +109,33 @@ def all_rows(rows):
     found = []
     for row in rows:
         found.append(row)
-        for inner in held_as(row, "rows"):
+        for inner in inner_lists(row):
             found.extend(all_rows(inner))
     return found
 
 
 def own_names(row):
     """The list of the names that stand in a row, its lists left out."""
-    gets = [name for name in held_as(row, "gets") if name != ""]
-    args = [name for names in held_as(row, "args") for name in names]
-    return args + gets + held_as(row, "name")
+    if row[0] in ("do", "yield"):
+        return [*row[2], row[3]] if row[3] != "" else list(row[2])
+    if row[0] in ("strike", "catch"):
+        return [row[2]]
+    return list(args_of(row))
 
 
 def names_in(rows):
     """The ascending list of the names that stand in rows, and in their lists."""
-    return sorted(set([name for row in all_rows(rows) for name in own_names(row)]))
+    return names_of_all(all_rows(rows))
+
+
+def names_of_all(rows):
+    """The ascending list of the names that stand in rows, their lists left out."""
+    return sorted(set([name for row in rows for name in own_names(row)]))
 
 
 def marks_in(rows):
     """The list of the marks of rows, and of those in their lists, in order."""
-    return [mark for row in all_rows(rows) for mark in held_as(row, "mark")]
+    return [row[1] for row in all_rows(rows) if row[0] not in UNMARKED]
 
 
 def renamed(rows, names, marks):
@@ -140,7 +162,7 @@ def renamed_part(part, held, names, marks):
 
 
 def count(rows):
-    """How many rows they are, with those in lists."""
+    """How many rows they are in all."""
     return len(all_rows(rows))
 
 
@@ -148,4 +170,4 @@ def depth(rows):
     """How deep rows stand in lists within one another."""
     if len(rows) == 0:
         return 0
-    return 1 + max([depth(inner) for row in rows for inner in held_as(row, "rows")], default=0)
+    return 1 + max([depth(inner) for row in rows for inner in inner_lists(row)], default=0)

@@ -2,7 +2,7 @@
 
 from cutoutpieces.cells import are_cells
 from cutoutpieces.pieces import stands_in
-from cutoutpieces.products import Product, leads_of
+from cutoutpieces.products import ground_of_cut, world_of
 from cutoutpieces.searches import all_states, is_closed
 from cutoutpieces.spots import is_spot
 from cutoutpieces.words import is_one_of
@@ -10,7 +10,7 @@ from cutoutpieces.words import is_one_of
 
 def table(cut, name, *, most=20000):
     """The ascending list of all states of a name, None if something unlike can be come to."""
-    found = all_states(Product(cut, name, leads_of(cut)), most)
+    found = all_states(world_of(cut, name, ground_of_cut(cut)), most)
     return None if found is None else sorted(found)
 
 
@@ -19,7 +19,7 @@ def is_table(cut, name, thing):
     names = tuple(cut.body.names())
     if not isinstance(thing, list) or not all([is_state(cut, names, name, state) for state in thing]):
         return False
-    return is_closed(Product(cut, name, leads_of(cut)), thing)
+    return is_closed(world_of(cut, name, ground_of_cut(cut)), thing)
 
 
 def is_state(cut, names, name, thing):

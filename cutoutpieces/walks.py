@@ -1,6 +1,6 @@
 """Walks: what a run does between two waits."""
 
-from cutoutpieces.rows import reads, sets
+from cutoutpieces.rows import sets
 
 
 def edges_of(stretches):
@@ -27,7 +27,8 @@ class Walk:
         self.acts = []
         self.stop = None
         self.known = {name: True for name in names}
-        self._layout = layout
+        self._rows = layout.by_address
+        self._needed = layout.needed_at
         self._edges = edges
         self._pending = list(pending)
 
@@ -37,15 +38,14 @@ class Walk:
 
     def go(self, address, word):
         """Goes on from the row at an address, behind a word that can come there."""
-        row = self._layout.row(address)
         if word == "yes":
             self._go_on((*address, 0, 0), None)
-        elif word == "no" and row[0] == "if":
-            self._go_on((*address, 1, 0), None)
         elif word == "fail" or word == "shut":
             self._go_on(address, word)
+        elif word == "no" and self._rows[address][0] == "if":
+            self._go_on((*address, 1, 0), None)
         else:
-            self._change(row, word)
+            self._change(self._rows[address], word)
             self._go_on(address, "end")
 
     def _change(self, row, word):
@@ -65,12 +65,11 @@ class Walk:
                 address, way = self._leave(address, way)
 
     def _come(self, gap):
-        rows = self._layout.rows_in(gap[:-1])
-        if gap[-1] == len(rows):
+        if gap not in self._rows:
             return self._leave_list(gap[:-1], "end")
         if gap in self._edges and self._edges[gap][1] and not self._enter(self._edges[gap][0]):
             return self._leave_list(gap[:-1], "fail")
-        return self._do(gap, rows[gap[-1]])
+        return self._do(gap, self._rows[gap])
 
     def _enter(self, k):
         """Comes to the stretch with this index, and tells whether its rows are done."""
@@ -84,18 +83,19 @@ class Walk:
 
     def _do(self, address, row):
         """Does what a row does without waiting."""
-        lacked = [name for name in reads(row) if name not in self.known]
-        if lacked:
-            self.acts.append(("lack", row[1], lacked[0]))
-            return address, "fail"
-        if row[0] == "guard" or row[0] == "last":
+        for name in self._needed[address]:
+            if name not in self.known:
+                self.acts.append(("lack", row[1], name))
+                return address, "fail"
+        word = row[0]
+        if word == "guard" or word == "last":
             return (*address, 0, 0), None
-        if row[0] == "leave" or row[0] == "again":
-            return address, row[0]
-        if row[0] == "catch":
+        if word == "leave" or word == "again":
+            return address, word
+        if word == "catch":
             self.acts.append(row)
             return address, "end"
-        if row[0] == "answer":
+        if word == "answer":
             self.acts.append(row)
             return address, "answer"
         return self._wait(address)
@@ -120,7 +120,7 @@ class Walk:
             self.stop = ((), (way,))
             return path, way
         address, number = path[:-1], path[-1]
-        word = self._layout.row(address)[0]
+        word = self._rows[address][0]
         if word == "loop":
             return self._leave_round(address, way)
         if word == "guard" and number == 0 and way == "fail":

@@ -4,7 +4,6 @@ LETTERS = "abcdefghijklmnopqrstuvwxyz"
 LONGEST = 8
 USES = ("look", "put")
 WAYS = ("again", "answer", "end", "fail", "leave", "shut")
-# Each handing stands at its weight.
 HANDINGS = ("none", "value", "state")
 
 
@@ -17,7 +16,7 @@ def is_name(thing):
     """Whether thing is a string of one to eight letters a to z."""
     if not isinstance(thing, str) or not 1 <= len(thing) <= LONGEST:
         return False
-    return all([letter in LETTERS for letter in thing])
+    return thing.isascii() and thing.isalpha() and thing.islower()
 
 
 def is_one_of(thing, words):

@@ -17,6 +17,27 @@ from samples import KIND_WORDS, Dice, made_bodies, made_folds, odd_values
 
 SOME = Piece([("if", "big", [("do", "a", [], "x")], [])])
 AROUND = ["guard", "last", "loop"]
+ALL = all_pairs()
+NOT_BACK_BY_VALUE = [pair for pair in ALL if pair != ("none", "value")]
+
+# Tuples (given, rows, stretch, told, rights) of pieces with many states.
+LARGE = [
+    (["na", "nv"], [("loop", "ol", [("guard", [
+        ("do", "oaa", [], "na"), ("do", "oab", [], "nv"), ("catch", "pk", "na", "put"),
+        ("if", "pa", [("strike", "pay", "nv")], [("again",)])], [("catch", "oca", "na", "put")])]), ("do", "cellwhhl", [], "")],
+     ((0, 0, 0, 0, 2), 2), ["again"],
+     {"na": NOT_BACK_BY_VALUE, "nv": [("value", "none"), ("state", "none"), ("value", "state"), ("state", "state")]}),
+    (["na"], [("loop", "ol", [("guard", [
+        ("catch", "pk", "na", "put"), ("if", "pa", [("yield", "pay", [], "")], [("answer", "pan", [])]), ("strike", "pb", "nf")],
+        [("do", "oca", [], "nf")])]), ("do", "cut", [], "")],
+     ((0, 0, 0, 0, 0), 3), ["answer", "fail", "shut"],
+     {"na": NOT_BACK_BY_VALUE, "nf": [("state", "state")]}),
+    (["v"], [("loop", "ol", [
+        ("do", "oaa", [], "q"), ("catch", "pk", "v", "put"), ("if", "pa", [("do", "pay", [], "q")], [("again",)]),
+        ("yield", "pb", [], "v"), ("catch", "oba", "v", "put")]), ("do", "diiz", [], "")],
+     ((0, 0, 1), 3), ["again", "fail", "shut"],
+     {"q": NOT_BACK_BY_VALUE, "v": NOT_BACK_BY_VALUE}),
+]
 
 
 def told_for(piece, dice):
@@ -214,6 +235,80 @@ class RightsTest(unittest.TestCase):
         self.assertEqual(list(rights_in(body, stretch, [], most=most)), ["x", "y"])
         with self.assertRaises(TooMany):
             rights_in(body, stretch, [], most=most - 1)
+
+    def test_pieces_with_many_states(self):
+        # Whatever is asked for is made anew, so that nothing can be known from ahead.
+        for given, rows, stretch, told, expected in LARGE:
+            piece = piece_at(Body(given, rows), stretch)
+            right = {name: [pair for pair in ALL if name not in differing(
+                free_cut(Body(given, rows), stretch, one_pair(name, pair, told)), most=800)] for name in piece.names()}
+            self.assertEqual(right, expected)
+            for _ in range(2):
+                self.assertEqual(rights_in(Body(given, rows), stretch, told, most=800), right)
+            for name in piece.names():
+                self.assertEqual(pairs_in(Body(given, rows), stretch, told, name, most=800), right[name])
+
+    def test_one_state_less_than_a_right_pair_needs(self):
+        for given, rows, stretch, told, right in LARGE:
+            sizes = {name: self.need_sizes(Body(given, rows), stretch, told, name, right[name]) for name in right}
+            for name in right:
+                # By the pairs that are wrong for it, nf has more states than by those that are right.
+                answer = right[name] if name != "nf" else None
+                self.need_limit(lambda most: pairs_in(Body(given, rows), stretch, told, name, most=most), sizes[name], answer)
+            self.need_limit(lambda most: rights_in(Body(given, rows), stretch, told, most=most), max(sizes.values()), right)
+
+    def need_sizes(self, body, stretch, told, name, right):
+        """How many states a name has by the right pair by which it has most of them."""
+        sizes = []
+        for pair in right:
+            cut = free_cut(body, stretch, one_pair(name, pair, told))
+            sizes.append(len(table(cut, name)))
+            self.assertNotIn(name, differing(cut, most=800))
+            if [name] == piece_at(body, stretch).names():
+                self.need_limit(lambda most: differing(cut, most=most), sizes[-1], [])
+        return max(sizes)
+
+    def need_limit(self, ask, many, answer):
+        """That so many states are enough for an answer, if one is told, and fewer are not."""
+        if answer is not None:
+            self.assertEqual(ask(many), answer)
+        for most in {many - 1, many // 2, 1} - {0, many}:
+            with self.assertRaises(TooMany) as caught:
+                ask(most)
+            self.assertEqual(caught.exception.most, most)
+
+    def test_most_in_made_bodies(self):
+        # A pair that is wrong, or that is right by fewer states, does not bring TooMany.
+        checked = 0
+        for k, body in enumerate(made_bodies(60, ("x", "y"))):
+            for stretch in stretches(body)[k % 4::6]:
+                piece = piece_at(body, stretch)
+                told = told_for(piece, Dice(k))
+                right = rights_in(body, stretch, told)
+                sizes = {name: self.need_sizes(body, stretch, told, name, right[name]) for name in right if right[name]}
+                if len(sizes) < len(right) or not sizes:
+                    continue
+                most = max(sizes.values())
+                if all(self.is_told(body, stretch, one_pair(name, pair, told), name, most) for name in right for pair in ALL):
+                    checked += 1
+                    for name in right:
+                        self.assertEqual(pairs_in(body, stretch, told, name, most=most), right[name])
+                    self.assertEqual(rights_in(body, stretch, told, most=most), right)
+                for name in sizes:
+                    if sizes[name] > 1:
+                        with self.assertRaises(TooMany):
+                            pairs_in(body, stretch, told, name, most=sizes[name] - 1)
+                        with self.assertRaises(TooMany):
+                            rights_in(body, stretch, told, most=sizes[name] - 1)
+        self.assertTrue(checked > 20, checked)
+
+    def is_told(self, body, stretch, plan, name, most):
+        """Whether so many states are enough for a plan, be it wrong."""
+        try:
+            table(free_cut(body, stretch, plan), name, most=most)
+        except TooMany:
+            return False
+        return True
 
     def test_the_states_of_other_names_are_not_needed(self):
         # y has many states by each pair that is right for it, x has few.
